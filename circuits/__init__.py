@@ -1,0 +1,1 @@
+"""Circuits: forms, tables, covers, graphs, machines."""

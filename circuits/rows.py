@@ -1,0 +1,23 @@
+"""Rows of truths and their numbers: place 0 tells the greatest part."""
+
+from circuits.errors import NoRow
+
+
+def row_of(number, many):
+    truths = []
+    rest = number
+    for step in range(many):
+        truths.append(rest % 2 == 1)
+        rest = rest // 2
+    # Halved so often, just the numbers of rows come to nought: those beyond
+    # stay above it, and those below it never reach it.
+    if rest != 0:
+        raise NoRow(f"no row of {many} places has the number {number}")
+    return tuple(reversed(truths))
+
+
+def number_of(row):
+    number = 0
+    for truth in row:
+        number = 2 * number + (1 if truth else 0)
+    return number
