@@ -23,9 +23,10 @@ def value(form, row):
 
 
 def thing_at(things, place):
-    # Python would count a place below nought from the end.
+    # Python would count a place below nought from the end. The words name no
+    # number that was handed in: Python writes none of some thousand digits.
     if place < 0 or place >= len(things):
-        raise NoPlace(f"there is nothing for the place {place}")
+        raise NoPlace("there is nothing for a place of the form")
     return things[place]
 
 

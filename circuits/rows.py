@@ -12,7 +12,7 @@ def row_of(number, many):
     # Halved so often, just the numbers of rows come to nought: those beyond
     # stay above it, and those below it never reach it.
     if rest != 0:
-        raise NoRow(f"no row of {many} places has the number {number}")
+        raise NoRow("no row of so many places has that number")
     return tuple(reversed(truths))
 
 

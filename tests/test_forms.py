@@ -103,6 +103,11 @@ class Value(unittest.TestCase):
         refused_with(self, NoPlace, value, ("not", ("not", C)), (True, True))
         refused_with(self, NoPlace, value, ("at", -1), (True, True))
 
+    def test_no_place_of_a_very_great_number(self):
+        for place in (10 ** 30, 10 ** 5000, -(10 ** 5000)):
+            refused_with(self, NoPlace, value, ("at", place), (True, True))
+            refused_with(self, NoPlace, value, ("or", A, ("not", ("at", place))), (True, True))
+
     def test_no_place_whatever_the_truth_would_be(self):
         for word in JOINING:
             for truth in (YES, NO):
@@ -178,6 +183,8 @@ class PutIn(unittest.TestCase):
         refused_with(self, NoPlace, put_in, A, ())
         refused_with(self, NoPlace, put_in, ("and", A, ("or", YES, ("not", C))), [A, B])
         refused_with(self, NoPlace, put_in, ("at", -1), (YES, NO))
+        for place in (10 ** 30, 10 ** 5000, -(10 ** 5000)):
+            refused_with(self, NoPlace, put_in, ("and", A, ("at", place)), (YES, NO))
 
     def test_sixty_deep(self):
         self.assertEqual(put_in(deep_left(2), (A, B)), deep_left(2))

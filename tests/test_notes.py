@@ -137,6 +137,8 @@ class Shown(unittest.TestCase):
         refused_with(self, NoPlace, shown, A, ())
         refused_with(self, NoPlace, shown, ("or", YES, ("not", ("at", 3))), ABC)
         refused_with(self, NoPlace, shown, ("at", -1), ABC)
+        for place in (10 ** 30, 10 ** 5000, -(10 ** 5000)):
+            refused_with(self, NoPlace, shown, ("not", ("at", place)), ABC)
 
     def test_deep_and_long(self):
         self.assertEqual(shown(deep_nots(), ABC), "not " * 59 + "a")

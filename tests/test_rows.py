@@ -60,6 +60,12 @@ class Rows(unittest.TestCase):
             self.refused(-(2 ** many), many)
             self.refused(-(2 ** many) - 1, many)
 
+    def test_no_row_of_a_very_great_number(self):
+        for many in (0, 1, 3, 10):
+            for number in (10 ** 30, 10 ** 4299, 10 ** 4300, 10 ** 5000):
+                self.refused(number, many)
+                self.refused(-number, many)
+
     def test_somewhat_beyond_ten_places_nothing_is_refused(self):
         self.assertEqual(row_of(2 ** 12 - 1, 12), (True,) * 12)
         self.assertEqual(number_of((True,) * 12), 2 ** 12 - 1)
