@@ -16,6 +16,17 @@ def row_of(number, many):
     return tuple(reversed(truths))
 
 
+def rows_many(many):
+    count = 1
+    for place in range(many):
+        count = 2 * count
+    return count
+
+
+def all_rows(many):
+    return [row_of(number, many) for number in range(rows_many(many))]
+
+
 def number_of(row):
     number = 0
     for truth in row:

@@ -1,5 +1,7 @@
 """Forms, rows and names that several tests use, and how they ask for a refusal."""
 
+import copy
+import inspect
 from itertools import product
 from random import Random
 
@@ -13,6 +15,92 @@ def refused_with(test, kind, ask, *things):
     with test.assertRaises(kind) as caught:
         ask(*things)
     test.assertIs(type(caught.exception), kind)
+
+
+def arguments_are(test, module, wanted):
+    """The names and arguments of a module's functions, as the interface tells them."""
+    for name, arguments in wanted.items():
+        with test.subTest(name=name):
+            test.assertEqual(list(inspect.signature(getattr(module, name)).parameters), arguments)
+
+
+def most_brackets(text):
+    now = most = 0
+    for sign in text:
+        now += {"(": 1, ")": -1}.get(sign, 0)
+        most = max(most, now)
+    return most
+
+
+def is_form(thing):
+    """Whether a thing is a form as [1.1] tells, whatever its size."""
+    if type(thing) is not tuple or len(thing) == 0:
+        return False
+    if thing[0] == "is":
+        return len(thing) == 2 and type(thing[1]) is bool
+    if thing[0] == "at":
+        return len(thing) == 2 and type(thing[1]) is int and thing[1] >= 0
+    length = 2 if thing[0] == "not" else 3 if thing[0] in JOINING else 0
+    return len(thing) == length and all(is_form(part) for part in thing[1:])
+
+
+def hangs_on(truths, many):
+    """The places on which a table hangs: two rows that differ there alone have unlike truths."""
+    return [
+        place for place in range(many)
+        if any(truths[number] != truths[number ^ (1 << (many - 1 - place))] for number in range(1 << many))
+    ]
+
+
+def same_kind(thing, other):
+    """Equal, and of the same kinds throughout: True is not 1, a list no tuple."""
+    if type(thing) is not type(other):
+        return False
+    if isinstance(thing, (list, tuple)):
+        return len(thing) == len(other) and all(same_kind(*pair) for pair in zip(thing, other))
+    if isinstance(thing, dict):
+        return same_kind(list(thing.items()), list(other.items()))
+    return thing == other
+
+
+def lists_in(thing):
+    """All lists and dicts that are in a thing, itself too."""
+    found = [thing] if isinstance(thing, (list, dict)) else []
+    inner = list(thing.items()) if isinstance(thing, dict) else thing
+    if isinstance(inner, (list, tuple)):
+        for part in inner:
+            found += lists_in(part)
+    return found
+
+
+def spoil(thing):
+    """Changes every list and dict in a thing, as its owner may."""
+    for one in lists_in(thing):
+        if isinstance(one, list):
+            one.append("spoilt")
+            one[0] = "spoilt"
+        else:
+            one.clear()
+
+
+def leaves_alone(test, ask, *things):
+    """What is handed in stays as it was and isn't kept; what is told is the asker's own, and told again."""
+    handed = copy.deepcopy(things)
+    first = ask(*handed)
+    test.assertTrue(same_kind(handed, things), "what was handed in was changed")
+    kept = copy.deepcopy(first)
+    lists = lists_in(first)
+    test.assertEqual(len(lists), len({id(one) for one in lists}), "two lists that are told are one")
+    test.assertFalse({id(one) for one in lists} & {id(one) for one in lists_in(handed)}, "a list handed in is told")
+    second = ask(*handed)
+    test.assertTrue(same_kind(second, kept), "asked again, something else is told")
+    test.assertFalse({id(one) for one in lists} & {id(one) for one in lists_in(second)}, "a list is told twice")
+    spoil(first)
+    test.assertTrue(same_kind(second, kept), "what was told changed with what was told earlier")
+    test.assertTrue(same_kind(ask(*handed), kept), "what is told changed with what was told earlier")
+    spoil(handed)
+    test.assertTrue(same_kind(second, kept), "what was told changed with what was handed in")
+    test.assertTrue(same_kind(ask(*copy.deepcopy(things)), kept), "what is told changed with what was handed in")
 
 
 def rows_of(many):

@@ -8,7 +8,8 @@ from circuits.errors import BadText, NoName, NoPlace
 from circuits.forms import places_in
 from circuits.notes import fault, read, shown
 from tests.samples import (
-    JOINING, TWELVE, WORDS, chance_forms, deep_left, deep_nots, forms_of, long_form, refused_with, tuples,
+    JOINING, TWELVE, WORDS, chance_forms, deep_left, deep_nots, forms_of, long_form, most_brackets, refused_with,
+    tuples,
 )
 
 A, B, C = ("at", 0), ("at", 1), ("at", 2)
@@ -18,14 +19,6 @@ BAD_NAMES = (
     ("",), ("abcdefghi",), ("A",), ("aB",), ("a1",), ("1",), ("a b",), (" a",), ("a ",), ("_",), ("a_b",), ("(",),
     ("`",), ("{",), ("a\n",), ("\t",), ("a", "b", "a"), ("x", "x"), ("a", "b", ""),
 ) + tuple((word,) for word in WORDS) + tuple(("a", word) for word in WORDS)
-
-
-def most_brackets(text):
-    now = most = 0
-    for sign in text:
-        now += {"(": 1, ")": -1}.get(sign, 0)
-        most = max(most, now)
-    return most
 
 
 def bracket_pairs(text):
