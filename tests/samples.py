@@ -172,3 +172,25 @@ def long_form():
         parts = pairs + parts[2 * len(pairs):]
         step += 1
     return ("not", parts[0])
+
+
+def chance_row(random, many):
+    return tuple(random.randrange(2) == 1 for place in range(many))
+
+
+def chance_rows(random, many, count):
+    return [chance_row(random, many) for number in range(count)]
+
+
+def circuit_with(random, many, cells, outs, deep=4):
+    places = many + cells
+    held = tuple((random.randrange(2) == 1, chance_form(random, places, deep)) for cell in range(cells))
+    return (many, held, tuple(chance_form(random, places, deep) for out in range(outs)))
+
+
+def chance_circuit(random):
+    return circuit_with(random, random.randrange(4), random.randrange(5), random.randrange(7))
+
+
+def most_of_each(seed):
+    return circuit_with(Random(seed), 3, 4, 6, 5)
