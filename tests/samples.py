@@ -194,3 +194,76 @@ def chance_circuit(random):
 
 def most_of_each(seed):
     return circuit_with(Random(seed), 3, 4, 6, 5)
+
+
+def chance_machine(random, many, wide, count):
+    """Its answers are few of all that there might be, so that states are often alike for some rows."""
+    told = [chance_row(random, wide) for number in range(1 + random.randrange(3))]
+    states = [
+        [(random.choice(told), random.randrange(count)) for row in range(1 << many)] for state in range(count)
+    ]
+    return (many, wide, states)
+
+
+def chance_machines(seed, count, most=8):
+    random = Random(seed)
+    return [
+        chance_machine(random, random.randrange(4), random.randrange(4), random.randrange(1, most + 1))
+        for number in range(count)
+    ]
+
+
+def ring(count, wide=1, many=1):
+    """Goes one state on at each row but the first, which stays; answers True at the last state alone."""
+    states = []
+    for number in range(count):
+        told = (number == count - 1,) * wide
+        states.append([(told, number if row == 0 and many else (number + 1) % count) for row in range(1 << many)])
+    return (many, wide, states)
+
+
+def reached_from_first(machine):
+    """The states that can be come to, as they are come to."""
+    found = [0]
+    for number in found:
+        for told, follower in machine[2][number]:
+            if follower not in found:
+                found.append(follower)
+    return found
+
+
+def moved_about(machine, order):
+    """The machine with state order[k] at place k; it begins with what stands at 0 then."""
+    many, wide, states = machine
+    return (many, wide, [
+        [(told, order.index(follower)) for told, follower in states[number]] for number in order
+    ])
+
+
+def doubled(machine):
+    """The machine with each state twice; rows of odd numbers lead to the second of both."""
+    many, wide, states = machine
+    count = len(states)
+    twice = []
+    for state in states + states:
+        twice.append([(told, follower + count * (row % 2)) for row, (told, follower) in enumerate(state)])
+    return (many, wide, twice)
+
+
+def wrong_machines(machine):
+    """One thing wrong in each: what NoMachine names, in any state and any pair."""
+    many, wide, states = machine
+    count = len(states)
+    found = [(many, wide, [])]
+    for number, state in enumerate(states):
+        for other in (state + state[-1:], state[:-1], []):
+            found.append((many, wide, states[:number] + [other] + states[number + 1:]))
+        for row, (told, follower) in enumerate(state):
+            pairs = [(told + (True,), follower), (told, -1), (told, -count), (told, count), (told, count + 5),
+                     (told, 10 ** 5000), (told, -(10 ** 5000))]
+            if wide:
+                pairs.append((told[:-1], follower))
+            for pair in pairs:
+                other = state[:row] + [pair] + state[row + 1:]
+                found.append((many, wide, states[:number] + [other] + states[number + 1:]))
+    return found
