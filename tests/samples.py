@@ -267,3 +267,16 @@ def wrong_machines(machine):
                 other = state[:row] + [pair] + state[row + 1:]
                 found.append((many, wide, states[:number] + [other] + states[number + 1:]))
     return found
+
+
+def chance_names(random, count):
+    """Names no two of which are alike, single letters among them."""
+    pool = list("abcdefghijklmnopqrstuvwxyz") + ["inn", "heldd", "outs", "yess", "abcdefgh", "zz", "nor", "carry"]
+    return tuple(random.sample(pool, count))
+
+
+def named(random, circuit):
+    """Names for a circuit, as a sheet has them: of the truths that come in, the cells, the answers."""
+    many, held, outs = circuit
+    names = chance_names(random, many + len(held) + len(outs))
+    return (names[:many], names[many:many + len(held)], names[many + len(held):])
