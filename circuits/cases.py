@@ -1,7 +1,7 @@
 """Forms told alike, with a tree of cases that shows it, or unlike, with a row."""
 
 from circuits.easing import eased, eased_not
-from circuits.forms import check_places, places_in, thing_at
+from circuits.forms import places_in, thing_at
 from circuits.things import is_tuple_of, is_whole, same_truth
 
 
@@ -31,14 +31,8 @@ def holding(held, place, truth):
     return held[:place] + (truth,) + held[place + 1:]
 
 
-def nothing_held(form, other, many):
-    check_places(form, many)
-    check_places(other, many)
-    return (None,) * many
-
-
 def told_forms(form, other, many):
-    held = nothing_held(form, other, many)
+    held = (None,) * many
     return told_held(rest_of(form, held), rest_of(other, held), held)
 
 
@@ -62,7 +56,7 @@ def told_held(form, other, held):
 
 
 def shows_alike(tree, form, other, many):
-    held = nothing_held(form, other, many)
+    held = (None,) * many
     return shows_held(tree, rest_of(form, held), rest_of(other, held), held)
 
 

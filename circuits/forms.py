@@ -42,11 +42,6 @@ def places_in(form):
     return sorted(set(places))
 
 
-def check_places(form, many):
-    if any([place < 0 or place >= many for place in places_in(form)]):
-        raise NoPlace("a form has a place that isn't there")
-
-
 def put_in(form, forms):
     word = form[0]
     if word == "is":

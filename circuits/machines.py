@@ -2,7 +2,7 @@
 
 from circuits.errors import NoMachine
 from circuits.rows import all_rows, number_of, rows_many
-from circuits.wires import check_circuit, check_length, first_state, moved
+from circuits.wires import check_length, first_state, moved
 
 
 def answers(machine, rows):
@@ -45,7 +45,6 @@ def is_state(machine, number):
 
 
 def machine_of(circuit):
-    check_circuit(circuit)
     rows = all_rows(circuit[0])
     found = come_to(first_state(circuit), lambda state: [moved(circuit, state, row) for row in rows])
     return ((circuit[0], len(circuit[2]), found[0]), found[1])

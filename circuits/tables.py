@@ -2,14 +2,13 @@
 
 from circuits.easing import chosen
 from circuits.errors import NoPlace, NoTable, UnlikeSizes
-from circuits.forms import check_places, value
+from circuits.forms import value
 from circuits.rows import all_rows, row_of, rows_many
 
 MOST_PLACES = 10
 
 
 def table(form, many):
-    check_places(form, many)
     return [value(form, row) for row in all_rows(many)]
 
 

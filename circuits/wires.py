@@ -1,7 +1,7 @@
 """Circuits that hold truths in cells, gone through step by step."""
 
-from circuits.errors import UnlikeSizes
-from circuits.forms import check_places, value
+from circuits.errors import NoPlace, UnlikeSizes
+from circuits.forms import places_in, value
 
 
 def stepped(circuit, state, row):
@@ -26,7 +26,8 @@ def gone(circuit, rows):
 def check_circuit(circuit):
     many = circuit[0] + len(circuit[1])
     for form in next_forms(circuit) + list(circuit[2]):
-        check_places(form, many)
+        if any([place < 0 or place >= many for place in places_in(form)]):
+            raise NoPlace("a form of the circuit has a place that isn't there")
 
 
 def check_length(truths, length):

@@ -64,6 +64,10 @@ class Fits(unittest.TestCase):
             for cube in cubes_of(many_of(wish)):
                 self.assertIs(fits(cube, wish), not any(wish[number] is F for number in wanted_rows(cube)))
 
+    def test_a_cube_of_another_length_does_not_fit(self):
+        self.assertIs(fits((T,), [T] * 4), False)
+        self.assertIs(fits((N, N, N), [T] * 4), False)
+
     def test_no_place(self):
         self.assertIs(fits((), [T]), True)
         self.assertIs(fits((), [N]), True)

@@ -31,6 +31,11 @@ class Cubes(unittest.TestCase):
         self.assertIs(in_cube((T, N, F), (F, F, F)), False)
         self.assertIs(in_cube((T, N, F), (T, F, T)), False)
 
+    def test_a_row_of_another_length_is_in_none(self):
+        self.assertIs(in_cube((T, N), (T,)), False)
+        self.assertIs(in_cube((T, N), (T, T, T)), False)
+        self.assertIs(in_cube((), (T,)), False)
+
     def test_rows_in(self):
         self.assertEqual(rows_in((T, N, F)), [4, 6])
         self.assertEqual(rows_in((N, F)), [0, 2])

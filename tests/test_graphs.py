@@ -116,6 +116,16 @@ class Graph(unittest.TestCase):
             self.kept_least(told)
             self.assertEqual(told, wanted_graph(truths_of(form, 12)))
 
+    def test_odds_of_very_many_places(self):
+        form = ("at", 0)
+        for place in range(1, 26):
+            form = ("odd", form, ("at", place))
+        told = graph(form)
+        self.kept_least(told)
+        self.assertEqual(len(told[0]), 51)
+        self.assertIs(walked(told, (T, F) * 13), True)
+        self.assertIs(walked(told, (T, F) * 12 + (F, F)), False)
+
     def test_places_from_12_on(self):
         form = ("is", True)
         for place in range(25, -1, -1):

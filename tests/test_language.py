@@ -37,6 +37,48 @@ BANNED_WORDS = (
     " NamedTuple TypedDict TYPE_CHECKING abstractmethod"
 ).split()
 CHANGING = "append clear extend insert pop remove reverse setdefault update".split()
+WALKED = "zip enumerate reversed range".split()
+WALKED_METHODS = "items keys values".split()
+WALKERS = "list tuple dict sorted sum any all enumerate zip min max".split()
+ONLY_READ = "get index count find items keys values".split()
+KEYWORDS = {
+    "sorted": ("key", "reverse"), "min": ("key", "default"), "max": ("key", "default"), "sum": ("start",),
+    "enumerate": ("start",), "zip": ("strict",),
+}
+KINDS = "int str bool list tuple dict".split()
+
+
+def called(node):
+    """The plain name that a call calls, if it is one."""
+    if isinstance(node, ast.Call) and isinstance(node.func, ast.Name):
+        return node.func.id
+    return None
+
+
+def is_walk(node):
+    if called(node) in WALKED:
+        return True
+    return isinstance(node, ast.Call) and isinstance(node.func, ast.Attribute) and node.func.attr in WALKED_METHODS
+
+
+def walked_names(node):
+    """The names that a loop walks, itself or through enumerate, zip and their like."""
+    if isinstance(node, ast.Name):
+        return [node.id]
+    if is_walk(node):
+        inner = node.args + ([node.func.value] if isinstance(node.func, ast.Attribute) else [])
+        return [name for one in inner for name in walked_names(one)]
+    return []
+
+
+def changed_names(node):
+    """The names whose list or dict is changed somewhere in a node."""
+    for part in ast.walk(node):
+        if isinstance(part, ast.Call) and isinstance(part.func, ast.Attribute) and part.func.attr in CHANGING:
+            if isinstance(part.func.value, ast.Name):
+                yield part.func.value.id
+        if isinstance(part, ast.Subscript) and not isinstance(part.ctx, ast.Load) and isinstance(part.value, ast.Name):
+            yield part.value.id
 
 
 def bound_names(tree):
@@ -77,6 +119,10 @@ class Language(unittest.TestCase):
             self.assertLessEqual(max(len(line) for line in text.split("\n")), 120, path.name)
             for word in re.findall(r"\w+", text):
                 self.assertNotIn(word, BANNED_WORDS, path.name)
+            for part in ("dataclass", "overload", "contextmanager"):
+                self.assertNotIn(part, text, path.name)
+            self.assertIsNone(re.search(r"\\[^nt\\'\"]", text), path.name)
+            self.assertIsNone(re.search(r"\d{901}", text), path.name)
         for where, node in self.nodes(ast.FunctionDef):
             self.assertLessEqual(node.end_lineno - node.lineno + 1, 40, where)
 
@@ -108,9 +154,12 @@ class Language(unittest.TestCase):
                     self.assertTrue(isinstance(right, ast.Constant) and right.value in (None, True, False), where)
         for where, node in self.nodes(ast.FormattedValue):
             self.assertIsInstance(node.value, ast.Name, where)
+            self.assertIsNone(node.format_spec, where)
+            self.assertIn(node.conversion, (-1, ord("r")), where)
         for where, node in self.nodes(ast.BinOp):
             if isinstance(node.op, ast.Pow):
                 self.assertIsInstance(node.right, ast.Constant, where)
+                self.assertIn(node.right.value, range(65), where)
 
     def test_texts_stand_by_themselves_at_a_files_head_alone(self):
         for path, tree in self.trees.items():
@@ -129,7 +178,8 @@ class Language(unittest.TestCase):
                     self.assertIn(node, tree.body)
                     source = node.module.partition(".")[2]
                     draws[path.stem].append(source)
-                    defined = [name for place, name in bound_names(self.trees[PACKAGE / f"{source}.py"])]
+                    defined = [name for top in self.trees[PACKAGE / f"{source}.py"].body
+                               if not isinstance(top, ast.ImportFrom) for name in self.names_of(top)]
                     for alias in node.names:
                         self.assertIn(alias.name, defined, path.name)
                         self.assertIsNone(alias.asname)
@@ -161,6 +211,67 @@ class Language(unittest.TestCase):
         self.assertIsInstance(node, (ast.ImportFrom, ast.Expr))
         return []
 
+    def test_no_annotations_and_nothing_tried(self):
+        for where, node in self.nodes(ast.arg):
+            self.assertIsNone(node.annotation, where)
+        for where, node in self.nodes(ast.FunctionDef):
+            self.assertIsNone(node.returns, where)
+        self.assertEqual(list(self.nodes(ast.AnnAssign, ast.Try)), [])
+
+    def test_classes_are_errors_without_a_body(self):
+        for where, node in self.nodes(ast.ClassDef):
+            self.assertTrue(where.startswith("errors.py"), where)
+            self.assertEqual([part.__class__ for part in node.body], [ast.Pass], where)
+        for where, node in self.nodes(ast.Raise):
+            self.assertIsInstance(node.exc, ast.Call, where)
+            self.assertIsNone(node.cause, where)
+
+    def test_words_of_refusals_name_no_number(self):
+        for where, node in self.nodes(ast.Raise):
+            for part in ast.walk(node):
+                if isinstance(part, ast.FormattedValue):
+                    self.assertIn(part.value.id, ("name", "wrong"), where)
+
+    def test_two_lambdas_do_not_stand_on_one_line(self):
+        lines = [where for where, node in self.nodes(ast.Lambda)]
+        self.assertEqual(len(lines), len(set(lines)))
+
+    def test_pythons_own_are_called_and_with_their_keywords_alone(self):
+        fine = []
+        for where, node in self.nodes(ast.Call):
+            fine.append(node.func)
+            allowed = KEYWORDS.get(called(node), ())
+            for keyword in node.keywords:
+                self.assertIn(keyword.arg, allowed, where)
+            if called(node) == "isinstance":
+                second = node.args[1]
+                kinds = second.elts if isinstance(second, ast.Tuple) else [second]
+                self.assertTrue(all(kind.id in KINDS for kind in kinds), where)
+                fine.extend(kinds)
+        for where, node in self.nodes(ast.ClassDef):
+            fine.extend(node.bases)
+        for where, node in self.nodes(ast.Name):
+            if node.id in dir(builtins):
+                self.assertIn(node, fine, where)
+
+    def test_walks_are_walked_on_the_spot(self):
+        fine = []
+        for where, node in self.nodes(ast.For, ast.comprehension, ast.Call):
+            if not isinstance(node, ast.Call):
+                fine.append(node.iter)
+            elif called(node) in WALKERS:
+                fine.extend(node.args if called(node) in ("zip", "enumerate") else node.args[:1])
+        for where, node in self.nodes(ast.Call):
+            if is_walk(node):
+                self.assertIn(node, fine, where)
+
+    def test_what_a_loop_walks_is_not_changed_in_it(self):
+        for where, node in self.nodes(ast.For):
+            names = walked_names(node.iter)
+            for statement in node.body:
+                for name in changed_names(statement):
+                    self.assertNotIn(name, names, where)
+
     def test_methods_are_called_where_they_stand(self):
         called = [node.func for where, node in self.nodes(ast.Call)]
         for where, node in self.nodes(ast.Attribute):
@@ -173,6 +284,21 @@ class Language(unittest.TestCase):
                 node.targets[0].id for node in tree.body
                 if isinstance(node, ast.Assign) and isinstance(node.value, (ast.List, ast.Dict))
             ]
+            read = []
+            for node in ast.walk(tree):
+                if isinstance(node, ast.Subscript):
+                    read.append(node.value)
+                elif isinstance(node, ast.Attribute) and node.attr in ONLY_READ:
+                    read.append(node.value)
+                elif isinstance(node, ast.Compare):
+                    read.extend(node.comparators)
+                elif isinstance(node, (ast.For, ast.comprehension)):
+                    read.append(node.iter)
+                elif called(node) in ("len", "list", "dict", "tuple", "sorted"):
+                    read.extend(node.args)
+            for node in ast.walk(tree):
+                if isinstance(node, ast.Name) and node.id in kept and isinstance(node.ctx, ast.Load):
+                    self.assertIn(node, read, f"{path.name}:{node.lineno}")
             for node in ast.walk(tree):
                 if isinstance(node, ast.Attribute) and isinstance(node.value, ast.Name) and node.value.id in kept:
                     self.assertNotIn(node.attr, CHANGING, f"{path.name}:{node.lineno}")

@@ -51,6 +51,17 @@ class Sheets(unittest.TestCase):
         self.assertTrue(same_kind(fault_row(text), number), (text, fault_row(text), number))
         refused_with(self, BadSheet, read_sheet, text)
 
+    def stands_not(self, text, number):
+        """Whatever the forms are: a later row that can't stand, or a form above, doesn't come ahead of it."""
+        self.at_fault(text, number)
+        self.at_fault(text + "\nx\n", number)
+        self.at_fault(text.replace("yes\n", "q q\n"), number)
+
+    def form_at_fault(self, text, number):
+        """A later row that can't stand whatever its form comes ahead of it."""
+        self.at_fault(text, number)
+        self.at_fault(text + "\nx\n", text.count("\n") + 1)
+
 
 class ReadSheet(Sheets):
     def test_ordinary(self):
@@ -129,27 +140,27 @@ class FaultRow(Sheets):
         self.at_fault("\n" * 199999, 200000)
 
     def test_the_row_in_lacking(self):
-        self.at_fault("out a = yes", 0)
-        self.at_fault("\n \nheld a yes = a\nout b = a", 2)
-        self.at_fault("out a = yes\nin", 0)
-        self.at_fault("held a yes = a\nin", 0)
+        self.stands_not("out a = yes", 0)
+        self.stands_not("\n \nheld a yes = a\nout b = a", 2)
+        self.stands_not("out a = yes\nin", 0)
+        self.stands_not("held a yes = a\nin", 0)
 
     def test_the_row_in_twice(self):
-        self.at_fault("in\nin", 1)
-        self.at_fault("in a\n\nin b", 2)
-        self.at_fault("in\nheld a no = a\nin b", 2)
-        self.at_fault("in\nout a = no\nin", 2)
+        self.stands_not("in\nin", 1)
+        self.stands_not("in a\n\nin b", 2)
+        self.stands_not("in\nheld a no = a\nin b", 2)
+        self.stands_not("in\nout a = no\nin", 2)
 
     def test_out_of_turn(self):
-        self.at_fault("in\nout a = no\nheld b no = b", 2)
-        self.at_fault("in\nheld c no = c\nout a = no\n\nheld b no = b\nout d = no", 4)
+        self.stands_not("in\nout a = no\nheld b no = b", 2)
+        self.stands_not("in\nheld c no = c\nout a = no\n\nheld b no = b\nout d = no", 4)
 
     def test_another_first_word(self):
         for row in ("x", "inn", "In", "IN", "hold a no = yes", "outs a = yes", "in=", "=", "= yes", "=in", "#", "yes",
                     "ina", "in,a", "a = yes", "\t", "\tin", "in\t", "in\ta", ".", "(in)", "held", "out", "=="):
-            self.at_fault(row, 0)
-            self.at_fault("in\n" + row, 1)
-            self.at_fault("in\nout z = yes\n" + row + "\nout y = no", 2)
+            self.stands_not(row, 0)
+            self.stands_not("in\n" + row, 1)
+            self.stands_not("in\nout z = yes\n" + row + "\nout y = no", 2)
 
     def test_tabs_are_no_blanks(self):
         self.at_fault("in\n\t\nout a = yes", 1)
@@ -161,65 +172,65 @@ class FaultRow(Sheets):
 
     def test_names_that_are_none(self):
         for name in NO_NAMES:
-            self.at_fault(f"in {name}", 0)
-            self.at_fault(f"in a {name} b", 0)
-            self.at_fault(f"in\nheld {name} no = yes", 1)
-            self.at_fault(f"in\nout {name} = yes", 1)
+            self.stands_not(f"in {name}", 0)
+            self.stands_not(f"in a {name} b", 0)
+            self.stands_not(f"in\nheld {name} no = yes", 1)
+            self.stands_not(f"in\nout {name} = yes", 1)
 
     def test_names_that_stand_already(self):
-        self.at_fault("in a a", 0)
-        self.at_fault("in a b a", 0)
-        self.at_fault("in a\nheld a no = yes", 1)
-        self.at_fault("in a\nout a = yes", 1)
-        self.at_fault("in\nheld a no = yes\nheld a no = yes", 2)
-        self.at_fault("in\nheld a no = yes\nout a = yes", 2)
-        self.at_fault("in\nout a = yes\nout a = yes", 2)
-        self.at_fault("in b\nheld c no = yes\nout d = yes\nout b = yes", 3)
+        self.stands_not("in a a", 0)
+        self.stands_not("in a b a", 0)
+        self.stands_not("in a\nheld a no = yes", 1)
+        self.stands_not("in a\nout a = yes", 1)
+        self.stands_not("in\nheld a no = yes\nheld a no = yes", 2)
+        self.stands_not("in\nheld a no = yes\nout a = yes", 2)
+        self.stands_not("in\nout a = yes\nout a = yes", 2)
+        self.stands_not("in b\nheld c no = yes\nout d = yes\nout b = yes", 3)
 
     def test_more_than_a_circuit_has(self):
-        self.at_fault("in a b c d", 0)
-        self.at_fault("in a b c\n" + "".join(f"held {name} no = a\n" for name in "defgh"), 5)
-        self.at_fault("in a\n" + "".join(f"out {name} = a\n" for name in "defghij"), 7)
+        self.stands_not("in a b c d", 0)
+        self.stands_not("in a b c\n" + "".join(f"held {name} no = a\n" for name in "defgh"), 5)
+        self.stands_not("in a\n" + "".join(f"out {name} = a\n" for name in "defghij"), 7)
         self.assertIsNone(fault_row("in a b c\n" + "".join(f"held {name} no = a\n" for name in "defg")))
         self.assertIsNone(fault_row("in a\n" + "".join(f"out {name} = a\n" for name in "defghi")))
-        self.at_fault(MOST + "out v = a", 11)
+        self.stands_not(MOST + "out v = a", 11)
 
     def test_a_word_too_many_or_too_few(self):
         rows = ("held no = yes", "held a = yes", "held = yes", "held a no no = yes", "held a b no = yes", "held = ",
                 "out = yes", "out a b = yes", "out a yes = yes", "out a no = yes", "held a no b = yes", "out=yes",
                 "held a noyes = yes")
         for row in rows:
-            self.at_fault("in\n" + row, 1)
-            self.at_fault("in b\nheld c no = c\n\n" + row + "\n", 3)
+            self.stands_not("in\n" + row, 1)
+            self.stands_not("in b\nheld c no = c\n\n" + row + "\n", 3)
 
     def test_the_first_truth(self):
         for truth in ("true", "Yes", "1", "on", "not", "yess", "nO", "a", "yes,"):
-            self.at_fault(f"in\nheld a {truth} = yes", 1)
+            self.stands_not(f"in\nheld a {truth} = yes", 1)
         self.fine("in\nheld a yes = yes", (((), ("a",), ()), (0, ((T, YES),), ())))
         self.fine("in\nheld a no = yes", (((), ("a",), ()), (0, ((F, YES),), ())))
 
     def test_no_sign_between(self):
         for row in ("held a no yes", "held a no", "out a yes", "out a", "held a no : yes", "out a - yes"):
-            self.at_fault("in\n" + row, 1)
+            self.stands_not("in\n" + row, 1)
 
     def test_the_sign_behind_in(self):
         for row in ("in =", "in a = b", "in a =", "in a=b", "in = a", "in a b = yes"):
-            self.at_fault(row, 0)
+            self.stands_not(row, 0)
 
     def test_forms_that_can_not_be_read(self):
         for form in ("", "  ", "q", "a b", "a and", "(a", "a)", "A", "a\tand b", "a = b", "= a", "not", "yes yes", "c",
                      "sum", "(" * 13 + "a" + ")" * 13, "a=", "\ta", "in", "1"):
-            self.at_fault(f"in a b\nout sum = {form}\nout c = a", 1)
-            self.at_fault(f"in a b\nheld d no = d\nheld e yes = {form}\nout c = a\nout sum = b", 2)
+            self.form_at_fault(f"in a b\nout sum = {form}\nout c = a", 1)
+            self.form_at_fault(f"in a b\nheld d no = d\nheld e yes = {form}\nout c = a\nout sum = b", 2)
 
     def test_the_form_is_all_behind_the_first_sign(self):
-        self.at_fault("in a\nout b = a = a", 1)
-        self.at_fault("in a\nout b == a", 1)
-        self.at_fault("in a\nheld b no = no = a", 1)
+        self.form_at_fault("in a\nout b = a = a", 1)
+        self.form_at_fault("in a\nout b == a", 1)
+        self.form_at_fault("in a\nheld b no = no = a", 1)
 
     def test_answers_names_are_not_known_to_forms(self):
-        self.at_fault("in a\nout b = a\nout c = b", 2)
-        self.at_fault("in a\nheld d no = b\nout b = a", 1)
+        self.form_at_fault("in a\nout b = a\nout c = b", 2)
+        self.form_at_fault("in a\nheld d no = b\nout b = a", 1)
 
     def test_two_faults_of_which_one_is_of_the_form(self):
         self.at_fault("in a\nout b = q\nout b = a", 2)

@@ -206,6 +206,15 @@ class FormOfTable(unittest.TestCase):
             self.check(odd_table(many), many)
             self.check([not truth for truth in odd_table(many)], many)
 
+    def test_forms_are_kept_short(self):
+        wanted = (
+            ([F, T], "a"), ([T, F], "not a"), ([F, T, T, F], "b odd a"), ([F, F, F, T], "a and b"),
+            ([F, T, T, T], "a or b"), ([T, T, F, T], "not a or b"), ([T, F, F, F], "not a and not b"),
+        )
+        for truths, text in wanted:
+            self.assertEqual(shown(form_of_table(truths), TWELVE), text)
+        self.assertEqual(tuples(form_of_table(odd_table(10))), 19)
+
     def test_seven_places_that_hang_on_all(self):
         majority = [bin(number).count("1") > 3 for number in range(128)]
         self.check(majority, 7)
